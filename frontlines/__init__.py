@@ -1,0 +1,1 @@
+"""Parts between mark lines, and what relays make of them."""
