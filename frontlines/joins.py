@@ -7,12 +7,12 @@ from frontlines.tables import table_of, turned_once
 def parting_line_of(signs, one, other):
     """The least line that the relays of both indexes turn otherwise; None.
 
-    What follows a line at which both are even stays, so a least one is in a cell of one of the tables alone.
+    Behind a line at which both are even nothing new comes, so the least one is the line of a cell of either table.
     """
     lines = {}
     for index in (one, other):
-        for _, line, _ in table_of(signs, index):
-            lines[line] = True
+        for cell in table_of(signs, index):
+            lines[cell[1]] = True
     for line in in_order(lines):
         if turned_once(one, line) != turned_once(other, line):
             return line
