@@ -1,18 +1,31 @@
 """The errors of wrong parameters, each raised where its value is not valid."""
 
 from frontlines.errors import (
+    InvalidBody,
+    InvalidCare,
+    InvalidChain,
     InvalidCount,
     InvalidEnds,
+    InvalidLevel,
     InvalidLine,
     InvalidLines,
+    InvalidLook,
+    InvalidMark,
+    InvalidMarks,
+    InvalidRole,
     InvalidRows,
     InvalidRules,
+    InvalidSight,
     InvalidSigns,
+    InvalidTail,
     OtherSigns,
 )
 from frontlines.lines import is_count, is_integer, is_line, is_list, is_signs
+from frontlines.words import CARE_WORDS, CARES, LOOKS, ROLE_WORDS, SIGHTS
 
 MOST_RULE_SIGNS = 40
+MOST_MARK_SIGNS = 12
+MOST_TAIL_SIGNS = 3
 
 
 def check_signs(signs):
@@ -54,16 +67,16 @@ def check_count(value):
         raise InvalidCount(value)
 
 
-def is_state(value, states):
-    """Whether the value is the number of one of so many states."""
-    return is_integer(value) and value >= 0 and value < states
+def is_place(value, many):
+    """Whether the value is the number of one of so many things, from 0 on."""
+    return is_integer(value) and value >= 0 and value < many
 
 
 def is_row(value, size, states):
     """Whether the value is a list of so many numbers of states."""
     if not is_list(value) or len(value) != size:
         return False
-    return all([is_state(state, states) for state in value])
+    return all([is_place(state, states) for state in value])
 
 
 def check_rows(signs, rows):
@@ -81,9 +94,15 @@ def check_ends(states, ends):
         raise InvalidEnds(None)
     ahead = {}
     for position, end in enumerate(ends):
-        if not is_state(end, states) or end in ahead:
+        if not is_place(end, states) or end in ahead:
             raise InvalidEnds(position)
         ahead[end] = True
+
+
+def is_word(value, words):
+    """Whether the value is one of the words."""
+    # A value of another kind is not compared with the words: it might say that it is equal.
+    return isinstance(value, str) and value in words
 
 
 def is_rule_line(signs, value):
@@ -96,9 +115,7 @@ def is_rule(signs, value):
     if not isinstance(value, tuple) or len(value) != 3:
         return False
     kind, old, new = value
-    # A value of another kind is not compared with the words: it might say that it is equal.
-    known = isinstance(kind, str) and kind in ("front", "whole")
-    return known and is_rule_line(signs, old) and is_rule_line(signs, new)
+    return is_word(kind, ("front", "whole")) and is_rule_line(signs, old) and is_rule_line(signs, new)
 
 
 def check_rules(signs, rules):
@@ -108,3 +125,106 @@ def check_rules(signs, rules):
     for position, rule in enumerate(rules):
         if not is_rule(signs, rule):
             raise InvalidRules(position)
+
+
+def is_chain_for(many, value):
+    """Whether the value is a chain for so many relays."""
+    return is_list(value) and all([is_place(number, many) for number in value])
+
+
+def check_chain(many, chain):
+    """InvalidChain unless a list of numbers of so many relays."""
+    if not is_list(chain):
+        raise InvalidChain(None)
+    for position, number in enumerate(chain):
+        if not is_place(number, many):
+            raise InvalidChain(position)
+
+
+def is_mark(signs, value):
+    """Whether the value is a mark of the signs."""
+    return is_line(signs, value) and len(value) >= 1 and len(value) <= MOST_MARK_SIGNS
+
+
+def check_mark(signs, mark):
+    """InvalidMark unless a mark of the signs."""
+    if not is_mark(signs, mark):
+        raise InvalidMark(mark)
+
+
+def check_marks(signs, marks, most):
+    """InvalidMarks unless a list of unlike marks, at least one and at most so many."""
+    if not is_list(marks) or len(marks) == 0 or len(marks) > most:
+        raise InvalidMarks(None)
+    for position, mark in enumerate(marks):
+        if not is_mark(signs, mark) or mark in marks[:position]:
+            raise InvalidMarks(position)
+
+
+def is_sight(signs, value):
+    """Whether the value is a sight for lines of the signs."""
+    return is_word(value, SIGHTS) or (is_line(signs, value) and len(value) == 1)
+
+
+def check_sight(signs, sight):
+    """InvalidSight unless a sight."""
+    if not is_sight(signs, sight):
+        raise InvalidSight(sight)
+
+
+def check_look(look):
+    """InvalidLook unless a look."""
+    if not is_word(look, LOOKS):
+        raise InvalidLook(look)
+
+
+def check_body(signs, body):
+    """InvalidBody unless a list of lines of the signs."""
+    if not is_list(body):
+        raise InvalidBody(None)
+    for position, line in enumerate(body):
+        if not is_line(signs, line):
+            raise InvalidBody(position)
+
+
+def check_tail(signs, tail):
+    """InvalidTail unless a tail of the signs."""
+    if not is_line(signs, tail) or len(tail) == 0 or len(tail) > MOST_TAIL_SIGNS:
+        raise InvalidTail(tail)
+
+
+def check_care_name(name, value):
+    """InvalidCare unless the name is that of a care."""
+    if not is_word(name, CARES):
+        raise InvalidCare(name, value)
+
+
+def check_care(signs, name, value):
+    """InvalidCare unless the value is a word of the care of this name."""
+    known = is_sight(signs, value) if name == "sight" else is_word(value, CARE_WORDS[name])
+    if not known:
+        raise InvalidCare(name, value)
+
+
+def is_level(depth, value):
+    """Whether the value is a level of a reader of this depth."""
+    return is_integer(value) and value >= 1 and value <= depth
+
+
+def check_level(depth, level):
+    """InvalidLevel unless a level of a reader of this depth."""
+    if not is_level(depth, level):
+        raise InvalidLevel(level)
+
+
+def is_role(depth, value):
+    """Whether the value is a role of a reader of this depth."""
+    if not isinstance(value, tuple) or len(value) != 2:
+        return False
+    return is_word(value[0], ROLE_WORDS) and is_level(depth, value[1])
+
+
+def check_role(depth, role):
+    """InvalidRole unless a role of a reader of this depth."""
+    if not is_role(depth, role):
+        raise InvalidRole(role)

@@ -21,6 +21,44 @@ RELAYS = """
 [('', '>'), None, True, [('front', '>-', '-'), ('front', '>>', '>')], [('whole', '>', ''), ('front', '>-', '-'), ('front', '>>', ''), ('front', '>a', 'a')]]
 """
 
+CHAINS = """
+>>> from frontlines.chains import before, chain_to, is_barrier, steps
+>>> mark = Machine.of_lines("->a", ["--"])
+>>> known = before([strip], mark)
+>>> [known.first_lines(3), known.states, steps([strip], ">>>--", mark), chain_to([strip], ">>>--", mark), steps([strip], "a--", mark)]
+[['--', '>--', '>>--'], 4, 3, [0, 0, 0], None]
+>>> [is_barrier([strip], "a--", mark, known), is_barrier([strip], ">--", mark, known), is_barrier([strip], "a--", mark, mark)]
+[True, False, False]
+"""
+
+WRITERS = """
+>>> from frontlines.writers import Writer, safe_looks
+>>> plain = Writer([strip], "whole", "whole")
+>>> [plain.first_unsafe("--"), safe_looks([strip], "--", "whole"), plain.safe_sets("--"), plain.unsafe_sets("--")]
+[('>--', 1), ['part', 'any'], [()], [(0,)]]
+>>> [plain.choice(["--", "->"], ["a", "--"]), plain.sorts(["--", "->"]), plain.least_full_body(["--", "->"])]
+['->', [((), ''), ((0,), '--'), ((1,), '->')], ['--', '->']]
+"""
+
+SCHEMES = """
+>>> from frontlines.readers import Reader
+>>> from frontlines.schemes import Scheme
+>>> reader = Reader("->a", ["--"], ">")
+>>> loose, tight = Scheme(reader, [strip], "whole"), Scheme(reader, [strip], "any")
+>>> [loose.is_kept(("next", 1)), loose.faults(), loose.lets(">--"), tight.is_sound(), tight.lets(">>-->"), tight.lets("a")]
+[True, [('body', '>--', 1)], True, True, False, True]
+>>> [Reader("->a", ["-", "--"], ">", sight="start", order="outer").role_at("--", 2), Scheme(reader, [quote], "any").first_fault()]
+[('next', 1), (('next', 1), '--', 1)]
+"""
+
+# Told in words: what a relay takes away turn by turn, and what becomes the mark.
+OVERVIEW = """
+>>> [steps([strip], ">--", mark), steps([strip], ">>--", mark), Writer([strip], "whole", "whole").is_safe("--")]
+[1, 2, False]
+>>> before([strip], mark) == Machine("->a", [(1, 0, 3), (2, 3, 3), (3, 3, 3), (3, 3, 3)], [2])
+True
+"""
+
 REPRS = """
 >>> from frontlines.machines import Machine
 >>> from frontlines.relays import Relay
@@ -30,6 +68,15 @@ Machine('->a', [(0, 1, 1), (1, 1, 1)], [0])
 Relay('->a', [('front', '>', '')])
 >>> Machine.MOST_STATES
 300
+>>> from frontlines.readers import Reader
+>>> from frontlines.schemes import Scheme
+>>> from frontlines.writers import Writer
+>>> Reader('->a', ['--', '->'], '-', sight='whole', order='inner', further='refuse', finish='refuse')
+Reader('->a', ['--', '->'], '-', sight='whole', order='inner', further='refuse', finish='refuse')
+>>> Writer([Relay('->a', []), Relay('->a', [('whole', '', '-')])], 'whole', 'any')
+Writer([Relay('->a', []), Relay('->a', [('whole', '', '-')])], 'whole', 'any')
+>>> Scheme(Reader('->a', ['--'], '-'), [Relay('->a', [])], 'any')
+Scheme(Reader('->a', ['--'], '-', sight='whole', order='inner', further='refuse', finish='refuse'), [Relay('->a', [])], 'any')
 """
 
 
@@ -45,6 +92,18 @@ class Examples(unittest.TestCase):
 
     def test_relays(self):
         self.check(RELAYS)
+
+    def test_chains(self):
+        self.check(MACHINES + RELAYS + CHAINS)
+
+    def test_writers(self):
+        self.check(RELAYS + WRITERS)
+
+    def test_schemes(self):
+        self.check(RELAYS + SCHEMES)
+
+    def test_overview(self):
+        self.check(MACHINES + RELAYS + CHAINS + WRITERS + OVERVIEW)
 
     def test_reprs(self):
         self.check(REPRS)

@@ -25,6 +25,7 @@ METHODS = set(
     "setdefault split splitlines startswith strip update upper values zfill bit_length add discard removeprefix "
     "removesuffix".split()
 )
+HEAPS = {"heappush", "heappop", "heapify", "heapreplace", "heappushpop"}
 CHANGING = {"append", "clear", "extend", "insert", "pop", "remove", "reverse", "setdefault", "update", "add", "discard"}
 OPERATORS = set(
     "__lt__ __le__ __gt__ __ge__ __ne__ __add__ __sub__ __mul__ __floordiv__ __mod__ __pow__ __and__ __or__ __xor__ "
@@ -48,11 +49,21 @@ DEFINED = {
     "StateError OtherSigns OtherReaders Untrue NothingToUndo CommandFailed LimitError TooMany",
     "machines": "Machine",
     "relays": "Relay",
+    "chains": "before_one after_one before after steps chain_to turned walked is_chain is_closed is_barrier",
+    "writers": "Writer safe_looks",
+    "readers": "Reader",
+    "schemes": "Scheme",
 }
 LISTED_METHODS = {
     "Machine": "every nothing of_lines beginning having tailed longer signs states rows ends __contains__ __or__ "
     "__and__ __sub__ __neg__ is_within unlike_line first_line is_finite how_many first_lines __eq__ __repr__ __init__",
     "Relay": "signs rules __call__ table __mul__ power is_alike parting_line joined_lines undoing undoes __eq__ "
+    "__repr__ __init__",
+    "Writer": "signs sight look relays seen barred is_safe first_unsafe safe_sets unsafe_sets lets choice sorts "
+    "least_full_body count_let __eq__ __repr__ __init__",
+    "Reader": "signs tail depth sight order further finish marks cares __getitem__ __iter__ roles line_of sees asked "
+    "taken role_at with_care __eq__ __repr__ __init__",
+    "Scheme": "reader look signs relays barred lets is_kept is_clear is_sound faults first_fault sound_sets __eq__ "
     "__repr__ __init__",
 }
 FUNCTION = (ast.FunctionDef, ast.AsyncFunctionDef)
@@ -222,7 +233,7 @@ class Code(unittest.TestCase):
 
     def test_barred_statements_and_expressions(self):
         barred = (
-            ast.Global, ast.AsyncFunctionDef, ast.AsyncFor, ast.AsyncWith, ast.Await, ast.Div, ast.MatMult, ast.Try,
+            ast.Global, ast.AsyncFunctionDef, ast.AsyncFor, ast.AsyncWith, ast.Await, ast.Div, ast.MatMult,
             ast.Set, ast.SetComp, ast.GeneratorExp, ast.AnnAssign, ast.AugAssign, ast.Delete, ast.Import, ast.Lambda,
         )
         for name, tree in trees().items():
@@ -232,6 +243,50 @@ class Code(unittest.TestCase):
                 self.assertNotIsInstance(node, barred, (name, getattr(node, "lineno", 0)))
                 if isinstance(node, ast.Pow):
                     self.fail(name)
+
+    def test_only_own_errors_are_caught(self):
+        found = trees()
+        own = {node.name for node in found["errors"].body if isinstance(node, ast.ClassDef)}
+        for name, tree in found.items():
+            for node in ast.walk(tree):
+                if isinstance(node, ast.Try):
+                    self.assertEqual(node.finalbody, [], name)
+                    for handler in node.handlers:
+                        self.assertIn(handler.type.id, own, name)
+
+    def test_generators(self):
+        found = trees()
+        made = set()
+        for tree in found.values():
+            for function in functions(tree):
+                if any(isinstance(node, (ast.Yield, ast.YieldFrom)) for node in ast.walk(function)):
+                    self.assertIn(function, tree.body)
+                    made.add(function.name)
+                    for node in ast.walk(function):
+                        if isinstance(node, ast.Return):
+                            self.assertIsNone(node.value)
+        self.assertEqual(made, {"walked"})
+        for name, tree in found.items():
+            for node in ast.walk(tree):
+                self.assertFalse(isinstance(node, ast.Name) and node.id in made, name)
+            if name != "chains":
+                self.assertFalse(made & {function.name for function in functions(tree)})
+
+    def test_names_of_properties(self):
+        classes = [node for tree in trees().values() for node in tree.body if isinstance(node, ast.ClassDef)]
+        methods, plain = set(), set()
+        for each in classes:
+            for method in each.body:
+                if isinstance(method, ast.FunctionDef):
+                    words = [ast.unparse(word) for word in method.decorator_list]
+                    (methods if words == ["property"] else plain).add(method.name)
+        stored = {
+            node.attr for tree in trees().values() for node in ast.walk(tree)
+            if isinstance(node, ast.Attribute) and isinstance(node.ctx, ast.Store)
+        }
+        self.assertEqual(methods & plain, set())
+        self.assertEqual((methods | plain) & stored, set())
+        self.assertEqual(methods & (METHODS | BUILTINS), set())
 
     def test_constants(self):
         for name, tree in trees().items():
@@ -363,6 +418,8 @@ class Purity(unittest.TestCase):
                     if node.func.attr in CHANGING | {"sort"}:
                         self.assertIsInstance(node.func.value, ast.Name, function.name)
                         self.assertIn(node.func.value.id, own, function.name)
+                if isinstance(node, ast.Call) and isinstance(node.func, ast.Name) and node.func.id in HEAPS:
+                    self.assertIn(root(node.args[0]).id, own, function.name)
                 if isinstance(node, ast.Subscript) and not isinstance(node.ctx, ast.Load):
                     self.assertIsInstance(node.value, ast.Name, function.name)
                     self.assertIn(node.value.id, own, function.name)
@@ -377,6 +434,8 @@ class Purity(unittest.TestCase):
                     changed = None
                     if isinstance(node, ast.Call) and isinstance(node.func, ast.Attribute):
                         changed = root(node.func) if node.func.attr in CHANGING else None
+                    if isinstance(node, ast.Call) and isinstance(node.func, ast.Name) and node.func.id in HEAPS:
+                        changed = root(node.args[0])
                     if isinstance(node, ast.Subscript) and not isinstance(node.ctx, ast.Load):
                         changed = root(node)
                     if isinstance(changed, ast.Name):

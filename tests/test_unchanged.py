@@ -2,9 +2,13 @@
 
 import copy
 
+from frontlines import chains
 from frontlines.errors import LineError, TooMany
 from frontlines.machines import Machine
+from frontlines.readers import Reader
 from frontlines.relays import Relay
+from frontlines.schemes import Scheme
+from frontlines.writers import Writer, safe_looks
 from tests.cases import Case
 
 
@@ -117,3 +121,119 @@ class Relays(Case):
     def test_property_cannot_be_assigned(self):
         with self.assertRaises(AttributeError):
             self.relay.signs = "ab"
+
+
+class AnyChain(Case):
+    def setUp(self):
+        self.relays = [Relay("->a", [("front", ">", "")]), Relay("->a", [("front", "a", "--")])]
+        self.machine = Machine.of_lines("->a", ["--", "a"])
+        self.chain = [0, 1, 0]
+
+    def calls(self):
+        relays, machine = self.relays, self.machine
+        return [
+            lambda: chains.before(relays, machine), lambda: chains.after(relays, machine),
+            lambda: chains.before_one(relays[0], machine), lambda: chains.after_one(relays[1], machine),
+            lambda: chains.steps(relays, ">>a", machine), lambda: chains.chain_to(relays, ">>--", machine),
+            lambda: chains.turned(relays, ">a", self.chain), lambda: list(chains.walked(relays, ">a", self.chain)),
+            lambda: chains.is_chain(relays, ">a", machine, self.chain), lambda: chains.is_closed(relays, machine),
+            lambda: chains.is_barrier(relays, "-", machine, machine), lambda: safe_looks(relays, "--", "whole"),
+        ]
+
+    def test_nothing_is_changed(self):
+        before = repr((self.relays, self.machine, self.chain))
+        for call in self.calls():
+            self.assertEqual(call(), call())
+            self.assertEqual(repr((self.relays, self.machine, self.chain)), before)
+
+    def test_what_was_returned_is_new(self):
+        for call in (lambda: chains.chain_to(self.relays, ">>--", self.machine),
+                     lambda: safe_looks(self.relays, "--", "whole")):
+            kept = list(call())
+            call().clear()
+            self.assertEqual(call(), kept)
+        known = chains.before(self.relays, self.machine)
+        known.rows().clear()
+        self.assertEqual(chains.before(self.relays, self.machine), known)
+
+    def test_errors_change_nothing(self):
+        before = repr((self.relays, self.machine))
+        for call in (lambda: chains.steps(self.relays, "b", self.machine), lambda: chains.before([], self.machine),
+                     lambda: chains.chain_to(self.relays, ">" * 201 + "--", self.machine)):
+            self.assertRaises((LineError, TooMany), call)
+            self.assertEqual(repr((self.relays, self.machine)), before)
+
+
+class Objects(Case):
+    """Writers, readers and schemes."""
+
+    def setUp(self):
+        self.relays = [Relay("->a", [("front", ">", "")]), Relay("->a", [("front", "a", "--")])]
+        self.marks = ["--", "->"]
+        self.body = ["a", "--"]
+        self.reader = Reader("->a", self.marks, ">", sight="start")
+
+    def look(self, made, calls):
+        """The calls return equal things twice, which can be changed, and change neither the object nor the lists."""
+        before = repr((made, self.relays, self.marks, self.body))
+        for call in calls:
+            kept = copy.deepcopy(call())
+            found = call()
+            if isinstance(found, (list, dict)):
+                found.clear()
+            self.assertEqual(call(), kept)
+            self.assertEqual(repr((made, self.relays, self.marks, self.body)), before)
+
+    def test_writers(self):
+        for look in ("whole", "any"):
+            writer = Writer(self.relays, "whole", look)
+            self.look(writer, [
+                writer.relays, lambda: writer.seen("--"), lambda: writer.barred("--"), lambda: writer.is_safe("--"),
+                lambda: writer.first_unsafe("--"), lambda: writer.safe_sets("--"), lambda: writer.unsafe_sets("--"),
+                lambda: writer.lets("--", self.body), lambda: writer.choice(self.marks, self.body),
+                lambda: writer.sorts(self.marks), lambda: writer.least_full_body(self.marks),
+                lambda: writer.count_let(self.marks, 3), lambda: repr(writer), lambda: writer == 1,
+            ])
+
+    def test_readers(self):
+        reader, role = self.reader, ("end", 1)
+        self.look(reader, [
+            reader.marks, reader.cares, reader.roles, lambda: reader[1], lambda: reader.line_of(role),
+            lambda: reader.sees(role), lambda: reader.asked(2), lambda: reader.taken(role, 2),
+            lambda: reader.role_at("-->", 2), lambda: reader.with_care("order", "outer"), lambda: repr(reader),
+        ])
+
+    def test_schemes(self):
+        for look in ("whole", "any"):
+            scheme = Scheme(self.reader, self.relays, look)
+            self.look(scheme, [
+                scheme.relays, scheme.barred, lambda: scheme.lets("-"), lambda: scheme.is_kept(("next", 1)),
+                scheme.is_clear, scheme.is_sound, scheme.faults, scheme.first_fault, scheme.sound_sets,
+                lambda: scheme.reader, lambda: repr(scheme),
+            ])
+
+    def test_copied(self):
+        writer, scheme = Writer(self.relays, "whole", "any"), Scheme(self.reader, self.relays, "any")
+        before = repr((writer, scheme, self.reader))
+        self.relays.clear()
+        self.marks.append("a")
+        self.assertEqual(repr((writer, scheme, self.reader)), before)
+        self.assertEqual((writer.is_safe("--"), scheme.is_clear(), self.reader.depth), (True, True, 2))
+
+    def test_errors_change_nothing(self):
+        writer, scheme = Writer(self.relays, "whole", "any"), Scheme(self.reader, self.relays, "any")
+        before = repr((writer, scheme))
+        for call in (lambda: writer.count_let(["-"], 401), lambda: writer.lets("-", ["b"]), lambda: scheme.lets("b"),
+                     lambda: scheme.is_kept(("end", 9)), lambda: self.reader[0], lambda: self.reader.with_care("x", 0)):
+            self.assertRaises((LineError, TooMany), call)
+            self.assertEqual(repr((writer, scheme)), before)
+
+    def test_properties_cannot_be_assigned(self):
+        writer, scheme = Writer(self.relays, "whole", "any"), Scheme(self.reader, self.relays, "any")
+        for made, names in ((writer, "signs sight look"), (scheme, "reader look signs"),
+                            (self.reader, "signs tail depth sight order further finish")):
+            for name in names.split():
+                with self.assertRaises(AttributeError):
+                    setattr(made, name, "a")
+        with self.assertRaises(TypeError):
+            self.reader[1] = "a"
