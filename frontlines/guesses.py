@@ -91,7 +91,8 @@ def proved_guess(graph, columns, most, work):
 
     A line that shows that the guess is wrong has an end whose column tells more spreads apart.
     """
-    while True:
+    left = work
+    while left > 0:
         guess = guessed_form(graph, columns, most)
         # If all columns are known, nothing else can tell spreads apart.
         if not columns.queue:
@@ -102,6 +103,8 @@ def proved_guess(graph, columns, most, work):
             if line is None:
                 return guess if is_sure else None
         columns.put_ends_of(line)
+        left = left - len(guess[0])
+    return None
 
 
 def guessed_form(graph, columns, most):
@@ -131,6 +134,7 @@ def missed_line(graph, form, work):
     state are left out.
     """
     rows, ends = form
+    is_end = {end: True for end in ends}
     kept = {}
     pairs = [(0, graph.first)]
     origins = [(0, 0, "")]
@@ -139,12 +143,12 @@ def missed_line(graph, form, work):
     while queue and left > 0:
         size, number = heappop(queue)
         state, spread = pairs[number]
-        if state in ends and not has_last(graph, spread):
+        if state in is_end and not has_last(graph, spread):
             return True, line_behind(origins, number)
         for place, sign in enumerate(graph.letters):
             target = rows[state][place]
             behind = spread_behind(graph, spread, sign)
-            if not is_dead(rows, ends, target) and add_least(kept, target, mask_of(behind)):
+            if not is_dead(rows, is_end, target) and add_least(kept, target, mask_of(behind)):
                 heappush(queue, (len(behind), len(pairs)))
                 pairs.append((target, behind))
                 origins.append((0, number, sign))

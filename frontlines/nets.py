@@ -101,25 +101,34 @@ def add_jumps(net, words, olds):
 
     What costs fewer turns is found first, so that a jump has its least cost when it is made.
     """
-    queue = [(0, 0, net.root, 0, net.root)]
-    # For each node the (cost, word) of the words that led to it so far; they use its later jumps, too.
+    queue = [(0, 0, net.root, -1, net.root)]
+    # For each node the (cost, word) of the words that led to it by a way so far; they use its later jumps, too.
     seen = [[] for _ in net.ways]
     while queue:
         cost, word, node, word_before, node_before = heappop(queue)
         if (word, node) not in net.came:
             net.came[(word, node)] = (word_before, node_before)
-            seen[node].append((cost, word))
             for sign, behind in list(words[word].items()):
                 if sign in net.ways[node]:
                     heappush(queue, (cost, behind, net.ways[node][sign], word, node))
-            for target, more in list(net.jumps[node].items()):
-                heappush(queue, (cost + more, word, target, word, node))
+            # Behind a jump there is no need of another one: a jump over both is made as well.
+            if word_before != word:
+                seen[node].append((cost, word))
+                push_jumps(net, queue, cost, word, node)
             for old, number in olds.get(word, []):
                 if is_new_jump(net, old, node):
                     net.jumps[old][node] = cost + 1
                     net.made[(old, node)] = (number, word)
                     for told, reader in seen[old]:
-                        heappush(queue, (told + cost + 1, reader, node, reader, old))
+                        if (reader, node) not in net.came:
+                            heappush(queue, (told + cost + 1, reader, node, reader, old))
+
+
+def push_jumps(net, queue, cost, word, node):
+    """Puts into the queue where the word leads by the jumps of a node to which it led."""
+    for target, more in net.jumps[node].items():
+        if (word, target) not in net.came:
+            heappush(queue, (cost + more, word, target, word, node))
 
 
 def is_new_jump(net, old, node):
@@ -128,18 +137,16 @@ def is_new_jump(net, old, node):
     return node != old and node not in net.jumps[old] and (node == DONE or len(net.ways[node]) > 0)
 
 
-def layers_of(net, line):
-    """For each beginning of the line and END a dict of the nodes to which it leads.
+def first_layer(net):
+    """The layer of the empty line.
 
-    Each has the tuple (least cost, the node before the last sign, the node to which this sign leads from there).
+    A layer is a dict of the nodes to which a line leads; each has the tuple (least cost, the node before the last sign,
+    the node to which this sign leads from there).
     """
     layer = {net.root: (0, net.root, net.root)}
     for node, more in net.jumps[net.root].items():
         layer[node] = (more, net.root, net.root)
-    layers = [layer]
-    for sign in line + END:
-        layers.append(next_layer(net, layers[-1], sign))
-    return layers
+    return layer
 
 
 def next_layer(net, layer, sign):
@@ -157,15 +164,20 @@ def next_layer(net, layer, sign):
 
 def steps_of(net, line):
     """The steps of the line; None if it is not accepted."""
-    layer = layers_of(net, line)[-1]
+    layer = first_layer(net)
+    for sign in line + END:
+        layer = next_layer(net, layer, sign)
     return layer[DONE][0] if DONE in layer else None
 
 
 def chain_of(net, line):
     """The numbers of the relays of a shortest chain for a line that is accepted."""
+    layers = [first_layer(net)]
+    for sign in line + END:
+        layers.append(next_layer(net, layers[-1], sign))
     todo = []
     node = DONE
-    for layer in layers_of(net, line)[::-1]:
+    for layer in layers[::-1]:
         _, before, behind = layer[node]
         if behind != node:
             todo.append((behind, node))

@@ -272,6 +272,16 @@ class Code(unittest.TestCase):
             if name != "chains":
                 self.assertFalse(made & {function.name for function in functions(tree)})
 
+    def test_names_of_the_library_are_only_called(self):
+        names = {name for given in LIBRARY.values() for name in given}
+        for name, tree in trees().items():
+            called = [node.func for node in ast.walk(tree) if isinstance(node, ast.Call)]
+            for node in ast.walk(tree):
+                if isinstance(node, ast.Name) and node.id in names:
+                    self.assertIn(node, called, (name, node.lineno))
+                if isinstance(node, ast.Call) and isinstance(node.func, ast.Name) and node.func.id in names:
+                    self.assertEqual(node.keywords, [], (name, node.lineno))
+
     def test_names_of_properties(self):
         classes = [node for tree in trees().values() for node in tree.body if isinstance(node, ast.ClassDef)]
         methods, plain = set(), set()
