@@ -74,7 +74,11 @@ def steps(relays, line, machine):
 def chain_to(relays, line, machine):
     """A shortest chain that turns the line into one that the machine accepts; None."""
     check_handed(relays, line, machine)
-    net = net_before(relays, machine)
+    return limited_chain(net_before(relays, machine), line)
+
+
+def limited_chain(net, line):
+    """A shortest chain of the turns that the net was made of; None; TooMany if it has more steps than may be told."""
     number = steps_of(net, line)
     if number is None:
         return None

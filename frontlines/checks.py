@@ -12,12 +12,15 @@ from frontlines.errors import (
     InvalidLook,
     InvalidMark,
     InvalidMarks,
+    InvalidMessage,
     InvalidRole,
     InvalidRows,
     InvalidRules,
     InvalidSight,
     InvalidSigns,
     InvalidTail,
+    InvalidTree,
+    InvalidWidth,
     OtherSigns,
 )
 from frontlines.lines import is_count, is_integer, is_line, is_list, is_signs
@@ -26,6 +29,7 @@ from frontlines.words import CARE_WORDS, CARES, LOOKS, ROLE_WORDS, SIGHTS
 MOST_RULE_SIGNS = 40
 MOST_MARK_SIGNS = 12
 MOST_TAIL_SIGNS = 3
+MOST_WIDTH = 4
 
 
 def check_signs(signs):
@@ -228,3 +232,38 @@ def check_role(depth, role):
     """InvalidRole unless a role of a reader of this depth."""
     if not is_role(depth, role):
         raise InvalidRole(role)
+
+
+def is_tree_of(signs, depth, value):
+    """Whether the value is a tree of the depth, of lines of the signs."""
+    if not is_list(value):
+        return False
+    if depth == 0:
+        return all([is_line(signs, line) for line in value])
+    return all([is_tree_of(signs, depth - 1, part) for part in value])
+
+
+def check_tree(signs, depth, tree):
+    """InvalidTree unless a tree of the depth, of lines of the signs."""
+    if not is_tree_of(signs, depth, tree):
+        raise InvalidTree(tree)
+
+
+def is_message(signs, value):
+    """Whether the value is a list of lines of the signs."""
+    return is_list(value) and all([is_line(signs, line) for line in value])
+
+
+def check_message(signs, message):
+    """InvalidMessage unless a list of lines of the signs."""
+    if not is_list(message):
+        raise InvalidMessage(None)
+    for position, line in enumerate(message):
+        if not is_line(signs, line):
+            raise InvalidMessage(position)
+
+
+def check_width(width):
+    """InvalidWidth unless an INTEGER from 1 to 4."""
+    if not is_integer(width) or width < 1 or width > MOST_WIDTH:
+        raise InvalidWidth(width)

@@ -9,7 +9,7 @@ from heapq import heappop, heappush
 
 from frontlines.errors import TooMany
 from frontlines.listing import is_dead, line_behind, mask_of
-from frontlines.spreads import Graph, Spreads, has_last, is_last, least_line_without, spread_behind
+from frontlines.spreads import Graph, Spreads, add_least, has_last, is_last, least_line_without, spread_behind
 
 FIRST_WORK = 2000
 
@@ -154,12 +154,3 @@ def missed_line(graph, form, work):
                 origins.append((0, number, sign))
         left = left - size - 1
     return len(queue) == 0, None
-
-
-def add_least(kept, state, mask):
-    """Adds a mask to those of the state, if it contains none of them, and leaves out those that contain it."""
-    masks = kept.get(state, [])
-    if any([other & ~mask == 0 for other in masks]):
-        return False
-    kept[state] = [other for other in masks if mask & ~other != 0] + [mask]
-    return True

@@ -85,21 +85,28 @@ def chain_net(signs, form, turns):
     ways, first = state_ways(signs, form)
     root = len(ways)
     ways.append({})
+    words, olds = turn_ends(ways, root, turns)
+    net = Net(signs, ways, root)
+    if first is not None:
+        net.jumps[root][first] = 0
+        add_jumps(net, words, olds, {})
+    return net
+
+
+def turn_ends(ways, root, turns):
+    """The words of the turns, and a dict from a word to the tuples (node of the old front, number of the relay)."""
     words = [{}]
     olds = {}
     for old, new, number in turns:
         olds.setdefault(led(words, 0, new), []).append((led(ways, root, old), number))
-    net = Net(signs, ways, root)
-    if first is not None:
-        net.jumps[root][first] = 0
-        add_jumps(net, words, olds)
-    return net
+    return words, olds
 
 
-def add_jumps(net, words, olds):
+def add_jumps(net, words, olds, cuts):
     """Makes the jumps: where the root leads by a new front, there leads a jump from the old front, for a turn more.
 
-    What costs fewer turns is found first, so that a jump has its least cost when it is made.
+    Where it leads to DONE by a word of cuts, there a jump is made from the first to the second node of each of its
+    tuples. What costs fewer turns is found first, so that a jump has its least cost when it is made.
     """
     queue = [(0, 0, net.root, -1, net.root)]
     # For each node the (cost, word) of the words that led to it by a way so far; they use its later jumps, too.
@@ -115,13 +122,21 @@ def add_jumps(net, words, olds):
             if word_before != word:
                 seen[node].append((cost, word))
                 push_jumps(net, queue, cost, word, node)
-            for old, number in olds.get(word, []):
-                if is_new_jump(net, old, node):
-                    net.jumps[old][node] = cost + 1
-                    net.made[(old, node)] = (number, word)
+            for old, target, number in jumps_by(olds, cuts, word, node):
+                if is_new_jump(net, old, target):
+                    net.jumps[old][target] = cost + 1
+                    net.made[(old, target)] = (number, word)
                     for told, reader in seen[old]:
-                        if (reader, node) not in net.came:
-                            heappush(queue, (told + cost + 1, reader, node, reader, old))
+                        if (reader, target) not in net.came:
+                            heappush(queue, (told + cost + 1, reader, target, reader, old))
+
+
+def jumps_by(olds, cuts, word, node):
+    """The tuples (node, target, number) of the jumps to be made when the root leads by the word to the node."""
+    found = [(old, node, number) for old, number in olds.get(word, [])]
+    if node == DONE:
+        found.extend([(old, target, -1) for old, target in cuts.get(word, [])])
+    return found
 
 
 def push_jumps(net, queue, cost, word, node):

@@ -3,11 +3,12 @@
 from frontlines.chains import machine_of_net, told_steps
 from frontlines.checks import check_line, check_look, check_role, check_same_signs
 from frontlines.faults import (
+    all_faults_of,
+    are_let_by,
     barred_somewhere,
     body_fault,
-    is_let_by,
-    is_sound_by,
-    role_steps,
+    first_fault_of,
+    role_fault,
     seen_net,
 )
 from frontlines.nets import steps_of
@@ -54,14 +55,12 @@ class Scheme:
     def lets(self, line):
         """Whether the line bars the line of no role."""
         check_line(self._reader.signs, line)
-        if self._look == "any":
-            return steps_of(seen_net(self._reader, turns_of(self._relays)), line) is None
-        return is_let_by(self._reader, self._look, line)
+        return are_let_by(self._reader, self._relays, self._look, [line])
 
     def is_kept(self, role):
         """Whether whatever some chain makes of the role's line is taken for the role."""
         check_role(self._reader.depth, role)
-        return role_steps(self._reader, turns_of(self._relays), role) is None
+        return role_fault(self._reader, turns_of(self._relays), role) is None
 
     def is_clear(self):
         """Whether no chain turns a let line into one that is taken while all levels are open."""
@@ -69,38 +68,24 @@ class Scheme:
 
     def is_sound(self):
         """Whether all roles are kept and the scheme is clear."""
-        return is_sound_by(self._reader, turns_of(self._relays), self._look)
+        return first_fault_of(self._reader, turns_of(self._relays), self._look) is None
 
     def faults(self):
         """The list of all faults, in the sequence of the roles, that of the body last."""
-        turns = turns_of(self._relays)
-        found = []
-        for role in self._reader.roles():
-            steps = role_steps(self._reader, turns, role)
-            if steps is not None:
-                found.append((role, self._reader.line_of(role), told_steps(steps)))
-        fault = body_fault(self._reader, turns, self._look)
-        if fault is not None:
-            found.append(("body", fault[0], told_steps(fault[1])))
-        return found
+        return [fault_told(fault) for fault in all_faults_of(self._reader, turns_of(self._relays), self._look)]
 
     def first_fault(self):
         """The first fault; None."""
-        turns = turns_of(self._relays)
-        for role in self._reader.roles():
-            steps = role_steps(self._reader, turns, role)
-            if steps is not None:
-                return role, self._reader.line_of(role), told_steps(steps)
-        fault = body_fault(self._reader, turns, self._look)
-        if fault is None:
-            return None
-        return "body", fault[0], told_steps(fault[1])
+        fault = first_fault_of(self._reader, turns_of(self._relays), self._look)
+        return None if fault is None else fault_told(fault)
 
     def sound_sets(self):
         """The sorted list of the largest sets of relays under which the scheme is sound."""
         turns = turns_of(self._relays)
         reader, look = self._reader, self._look
-        return largest_sets(len(self._relays), lambda numbers: is_sound_by(reader, turns_within(turns, numbers), look))
+        return largest_sets(
+            len(self._relays), lambda numbers: first_fault_of(reader, turns_within(turns, numbers), look) is None
+        )
 
     def __eq__(self, other):
         return (
@@ -112,3 +97,9 @@ class Scheme:
 
     def __repr__(self):
         return f"Scheme({self._reader!r}, {self._relays!r}, {self._look!r})"
+
+
+def fault_told(fault):
+    """A fault with its steps in the place of the net; TooMany if they are too many to be told."""
+    word, line, net = fault
+    return word, line, told_steps(steps_of(net, line))

@@ -1,4 +1,4 @@
-"""Spreads of nets, and the least line that a net accepts and a form does not.
+"""Spreads of nets, and the least line that a net accepts and a form, or another net, does not.
 
 A SPREAD is the sorted tuple of the nodes of a net to which a line leads, as far as DONE can be reached from there.
 """
@@ -6,7 +6,7 @@ A SPREAD is the sorted tuple of the nodes of a net to which a line leads, as far
 from heapq import heappop, heappush
 
 from frontlines.forms import least_form
-from frontlines.listing import line_behind
+from frontlines.listing import line_behind, mask_of
 from frontlines.nets import DONE, END
 
 
@@ -115,6 +115,47 @@ def least_line_without(graph, form):
             if new:
                 met.update(new)
                 groups.append(list(new))
+                origins.append((0, at, sign))
+        at = at + 1
+    return None
+
+
+def add_least(kept, state, mask):
+    """Adds a mask to those of the state, if it contains none of them, and leaves out those that contain it."""
+    masks = kept.get(state, [])
+    if any([other & ~mask == 0 for other in masks]):
+        return False
+    kept[state] = [other for other in masks if mask & ~other != 0] + [mask]
+    return True
+
+
+def takes_all(graph, node):
+    """Whether each sign leads from the node to itself, and a line may end there."""
+    return is_last(graph, node) and all([node in graph.moves[node].get(sign, []) for sign in graph.letters])
+
+
+def least_line_outside(graph, other):
+    """The least line that the net of the graph accepts and that of the other graph does not; None.
+
+    A group is the nodes that go on with a line, and its spread in the other graph; so the groups are in order. A node
+    does not go on beside a spread that contains one beside which it was met: the line that met it there is less, and
+    what goes on from here would go on behind that line as well.
+    """
+    full = mask_of([node for node in range(len(other.moves)) if takes_all(other, node)])
+    kept = {}
+    groups = [(graph.first, other.first)]
+    origins = [(0, 0, "")]
+    at = 0
+    while at < len(groups):
+        nodes, spread = groups[at]
+        if has_last(graph, nodes) and not has_last(other, spread):
+            return line_behind(origins, at)
+        for sign in graph.letters:
+            behind = spread_behind(other, spread, sign)
+            mask = mask_of(behind)
+            new = [node for node in spread_behind(graph, nodes, sign) if add_least(kept, node, mask)]
+            if new and mask & full == 0:
+                groups.append((new, behind))
                 origins.append((0, at, sign))
         at = at + 1
     return None

@@ -51,6 +51,33 @@ SCHEMES = """
 [('next', 1), (('next', 1), '--', 1)]
 """
 
+TREES = """
+>>> from frontlines.trees import goes_wrong, own_telling, telling, tree_read, written
+>>> pair = Reader("->a", ["--", "->"], ">")
+>>> tree = [[["a", ""], []], []]
+>>> written(pair, tree)
+['--', '->', 'a', '', '->', '->>', '--', '->>', '-->']
+>>> own_telling(pair, tree)[:4]
+[('next', 1), ('next', 2), ('line', 0), ('line', 0)]
+>>> [tree_read(pair, written(pair, tree)) == tree, telling(pair, ["--", "a"]), goes_wrong(loose, [[">--"]], [0])]
+[True, None, True]
+"""
+
+BREAKS = """
+>>> from frontlines.breaks import coming, first_coming, is_coming_way, pieces
+>>> [pieces("->a", "a->-a", 2), coming([strip], 2, mark).first_lines(4), is_coming_way([strip], 2, "a>--", mark, [("piece", 1)])]
+[['a-', '>-', 'a'], ['--', '---', '-->', '--a'], True]
+"""
+
+ALIKE = """
+>>> from frontlines.alike import are_alike, line_views, unlike_message
+>>> strict, lenient = Reader("->a", ["--"], ">"), Reader("->a", ["--"], ">", sight="start")
+>>> [are_alike(strict, lenient), unlike_message(strict, lenient), unlike_message(strict, strict.with_care("finish", "close"))]
+[False, ['-->-'], []]
+>>> line_views(strict, lenient)
+[([], [], ''), ([('next', 1)], [('next', 1)], '--'), ([], [('next', 1)], '---'), ([('end', 1)], [('next', 1), ('end', 1)], '-->'), ([], [('next', 1), ('end', 1)], '-->-')]
+"""
+
 # Told in words: what a relay takes away turn by turn, and what becomes the mark.
 OVERVIEW = """
 >>> [steps([strip], ">--", mark), steps([strip], ">>--", mark), Writer([strip], "whole", "whole").is_safe("--")]
@@ -101,6 +128,15 @@ class Examples(unittest.TestCase):
 
     def test_schemes(self):
         self.check(RELAYS + SCHEMES)
+
+    def test_trees(self):
+        self.check(RELAYS + SCHEMES + TREES)
+
+    def test_breaks(self):
+        self.check(MACHINES + RELAYS + CHAINS + BREAKS)
+
+    def test_alike(self):
+        self.check(SCHEMES.partition(">>> reader")[0] + ALIKE)
 
     def test_overview(self):
         self.check(MACHINES + RELAYS + CHAINS + WRITERS + OVERVIEW)

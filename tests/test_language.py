@@ -53,6 +53,9 @@ DEFINED = {
     "writers": "Writer safe_looks",
     "readers": "Reader",
     "schemes": "Scheme",
+    "trees": "is_tree written own_telling telling course tree_read goes_wrong wrong_way is_wrong_way",
+    "breaks": "pieces coming first_coming are_numbers_right first_longer is_coming_way",
+    "alike": "can_be_held line_views is_unlike_at are_alike unlike_message",
 }
 LISTED_METHODS = {
     "Machine": "every nothing of_lines beginning having tailed longer signs states rows ends __contains__ __or__ "

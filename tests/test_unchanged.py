@@ -2,8 +2,8 @@
 
 import copy
 
-from frontlines import chains
-from frontlines.errors import LineError, TooMany
+from frontlines import alike, breaks, chains, trees
+from frontlines.errors import LineError, OtherReaders, TooMany
 from frontlines.machines import Machine
 from frontlines.readers import Reader
 from frontlines.relays import Relay
@@ -237,3 +237,70 @@ class Objects(Case):
                     setattr(made, name, "a")
         with self.assertRaises(TypeError):
             self.reader[1] = "a"
+
+
+class Messages(Case):
+    """Trees, messages, ways and readers held together."""
+
+    def setUp(self):
+        self.relays = [Relay("->a", [("front", ">", "")]), Relay("->a", [("front", "a", "--")])]
+        self.reader = Reader("->a", ["--", "->"], ">")
+        self.other = self.reader.with_care("finish", "close")
+        self.scheme = Scheme(self.reader, self.relays, "whole")
+        self.tree = [[["a", ""], []], ()]
+        self.message = ["--", "->", "a", "->>", "-->"]
+        self.chain = [0, 1, 0]
+        self.way = ([[[">->"]]], [0])
+        self.machine = Machine.of_lines("->a", ["--", "a"])
+
+    def told(self):
+        return repr((self.relays, self.reader, self.other, self.scheme, self.tree, self.message, self.chain, self.way,
+                     self.machine))
+
+    def calls(self):
+        reader, other, scheme = self.reader, self.other, self.scheme
+        return [
+            lambda: trees.is_tree(reader, self.tree), lambda: trees.written(reader, self.tree),
+            lambda: trees.own_telling(reader, self.tree), lambda: trees.telling(reader, self.message),
+            lambda: trees.course(reader, self.message), lambda: trees.tree_read(reader, self.message),
+            lambda: trees.goes_wrong(scheme, self.tree, self.chain), lambda: trees.wrong_way(scheme),
+            lambda: trees.is_wrong_way(scheme, self.way), lambda: breaks.pieces("->a", "a->-a", 2),
+            lambda: breaks.coming(self.relays, 2, self.machine), lambda: breaks.first_coming(scheme, 2),
+            lambda: breaks.are_numbers_right(scheme, 2), lambda: breaks.first_longer(scheme, 2),
+            lambda: breaks.is_coming_way(self.relays, 2, ">a", self.machine, self.chain),
+            lambda: alike.can_be_held(reader, other), lambda: alike.line_views(reader, other),
+            lambda: alike.is_unlike_at(reader, other, self.message), lambda: alike.are_alike(reader, other),
+            lambda: alike.unlike_message(reader, self.reader.with_care("sight", "start")),
+        ]
+
+    def emptied(self, value):
+        """Takes away all that a value holds, and all within it."""
+        for part in value if isinstance(value, (list, tuple)) else ():
+            self.emptied(part)
+        if isinstance(value, list):
+            value.clear()
+
+    def test_nothing_is_changed_and_what_was_returned_is_new(self):
+        before = self.told()
+        for call in self.calls():
+            kept = copy.deepcopy(call())
+            self.emptied(call())
+            self.assertEqual(call(), kept)
+            self.assertEqual(self.told(), before)
+
+    def test_a_tree_that_is_read_is_new(self):
+        found = trees.tree_read(self.reader, self.message)
+        self.assertEqual(found, [[["a"]]])
+        found[0][0].append("b")
+        found[0].append([])
+        self.assertEqual(trees.tree_read(self.reader, self.message), [[["a"]]])
+
+    def test_errors_change_nothing(self):
+        before = self.told()
+        for call in (lambda: trees.written(self.reader, [[["a"], ["b"]]]), lambda: trees.telling(self.reader, ["a", 0]),
+                     lambda: trees.goes_wrong(self.scheme, self.tree, [0, 2]), lambda: breaks.first_longer(self.scheme, 5),
+                     lambda: breaks.coming(self.relays + [None], 2, self.machine)):
+            self.assertRaises(LineError, call)
+            self.assertEqual(self.told(), before)
+        self.assertRaises(OtherReaders, alike.are_alike, self.reader, Reader("->a", ["--"], ">"))
+        self.assertEqual(self.told(), before)
