@@ -24,7 +24,7 @@ from frontlines.errors import (
     OtherSigns,
 )
 from frontlines.lines import is_count, is_integer, is_line, is_list, is_signs
-from frontlines.words import CARE_WORDS, CARES, LOOKS, ROLE_WORDS, SIGHTS
+from frontlines.words import CARE_WORDS, CARES, LOOKS, ROLE_WORDS, RULE_WORDS, SIGHTS
 
 MOST_RULE_SIGNS = 40
 MOST_MARK_SIGNS = 12
@@ -119,7 +119,7 @@ def is_rule(signs, value):
     if not isinstance(value, tuple) or len(value) != 3:
         return False
     kind, old, new = value
-    return is_word(kind, ("front", "whole")) and is_rule_line(signs, old) and is_rule_line(signs, new)
+    return is_word(kind, RULE_WORDS) and is_rule_line(signs, old) and is_rule_line(signs, new)
 
 
 def check_rules(signs, rules):
@@ -191,9 +191,14 @@ def check_body(signs, body):
             raise InvalidBody(position)
 
 
+def is_tail(signs, value):
+    """Whether the value is a tail of the signs."""
+    return is_line(signs, value) and len(value) >= 1 and len(value) <= MOST_TAIL_SIGNS
+
+
 def check_tail(signs, tail):
     """InvalidTail unless a tail of the signs."""
-    if not is_line(signs, tail) or len(tail) == 0 or len(tail) > MOST_TAIL_SIGNS:
+    if not is_tail(signs, tail):
         raise InvalidTail(tail)
 
 

@@ -1,6 +1,7 @@
 """Numbers [2], signs and lines [11], and the order of lines."""
 
 SIGN_CHARACTERS = "abcdefghijklmnopqrstuvwxyz0123456789.-=>|"
+EMPTY_WORD = "_"
 
 
 def is_integer(value):
@@ -40,3 +41,15 @@ def line_order(line):
 def in_order(lines):
     """The list of the lines in order."""
     return sorted(list(lines), key=line_order)
+
+
+def word_of_line(line):
+    """The word by which texts and commands tell a line."""
+    return EMPTY_WORD if line == "" else line
+
+
+def line_of_word(signs, word):
+    """The line of the signs that a word tells; None if it tells none."""
+    if word == EMPTY_WORD:
+        return ""
+    return word if word != "" and is_line(signs, word) else None

@@ -78,6 +78,16 @@ ALIKE = """
 [([], [], ''), ([('next', 1)], [('next', 1)], '--'), ([], [('next', 1)], '---'), ([('end', 1)], [('next', 1), ('end', 1)], '-->'), ([], [('next', 1), ('end', 1)], '-->-')]
 """
 
+DESK = """
+>>> from frontlines.desk import Desk
+>>> from frontlines.texts import text_of
+>>> text_of(loose)
+'signs ->a\\nrelay front > _\\nmark --\\ntail >\\nsight whole\\norder inner\\nfurther refuse\\nfinish refuse\\nlook whole\\n'
+>>> desk = Desk(loose)
+>>> desk.do_all("sound", "care look any", "sound", "turn >>-- 0 0", "tell -- a -->", "undo", "sound")
+['no body 0 >-- 1', 'done', 'yes', '--', 'next 1, line, end 1', 'care look any', 'no body 0 >-- 1']
+"""
+
 # Told in words: what a relay takes away turn by turn, and what becomes the mark.
 OVERVIEW = """
 >>> [steps([strip], ">--", mark), steps([strip], ">>--", mark), Writer([strip], "whole", "whole").is_safe("--")]
@@ -137,6 +147,12 @@ class Examples(unittest.TestCase):
 
     def test_alike(self):
         self.check(SCHEMES.partition(">>> reader")[0] + ALIKE)
+
+    def test_desk(self):
+        self.check(RELAYS + SCHEMES + DESK)
+
+    def test_all_one_after_another(self):
+        self.check(MACHINES + RELAYS + CHAINS + WRITERS + SCHEMES + TREES + BREAKS + ALIKE + DESK)
 
     def test_overview(self):
         self.check(MACHINES + RELAYS + CHAINS + WRITERS + OVERVIEW)

@@ -56,6 +56,10 @@ DEFINED = {
     "trees": "is_tree written own_telling telling course tree_read goes_wrong wrong_way is_wrong_way",
     "breaks": "pieces coming first_coming are_numbers_right first_longer is_coming_way",
     "alike": "can_be_held line_views is_unlike_at are_alike unlike_message",
+    "texts": "text_of read_scheme",
+    "claims": "is_paper is_true paper_for",
+    "drafts": "Draft",
+    "desk": "Desk",
 }
 LISTED_METHODS = {
     "Machine": "every nothing of_lines beginning having tailed longer signs states rows ends __contains__ __or__ "
@@ -68,6 +72,8 @@ LISTED_METHODS = {
     "taken role_at with_care __eq__ __repr__ __init__",
     "Scheme": "reader look signs relays barred lets is_kept is_clear is_sound faults first_fault sound_sets __eq__ "
     "__repr__ __init__",
+    "Draft": "scheme __getitem__ __setitem__ __iter__ __len__ __iadd__ drop put_tail put_care take_away tried_by __init__",
+    "Desk": "scheme do do_all log __init__",
 }
 FUNCTION = (ast.FunctionDef, ast.AsyncFunctionDef)
 # Running examples puts a "_" among the builtins.
@@ -95,7 +101,8 @@ def parameters(function):
 
 def local_names(function):
     stored = [node.id for node in ast.walk(function) if isinstance(node, ast.Name) and isinstance(node.ctx, ast.Store)]
-    return set(stored) | set(parameters(function))
+    caught = [node.name for node in ast.walk(function) if isinstance(node, ast.ExceptHandler) and node.name]
+    return set(stored) | set(parameters(function)) | set(caught)
 
 
 def root(node):
@@ -192,10 +199,20 @@ class Interface(unittest.TestCase):
 
 
 class Code(unittest.TestCase):
+    def is_table(self, value):
+        """Whether the value is a dict of functions."""
+        return isinstance(value, ast.Dict) and all(isinstance(each, ast.Name) for each in value.values)
+
+    def test_tables_are_called_by_a_name(self):
+        for name, tree in trees().items():
+            for node in ast.walk(tree):
+                if isinstance(node, ast.Call):
+                    self.assertIsInstance(node.func, (ast.Name, ast.Attribute), (name, node.lineno))
+
     def test_module_level(self):
         allowed = (ast.ImportFrom, ast.FunctionDef, ast.ClassDef, ast.Assign, ast.Expr)
         for name, tree in trees().items():
-            bound = []
+            bound, defined = [], set()
             for node in tree.body:
                 self.assertIsInstance(node, allowed, name)
                 if isinstance(node, ast.Expr):
@@ -203,10 +220,14 @@ class Code(unittest.TestCase):
                 if isinstance(node, ast.Assign):
                     self.assertEqual(len(node.targets), 1)
                     self.assertIsInstance(node.targets[0], ast.Name)
+                    if self.is_table(node.value):
+                        self.assertLessEqual({each.id for each in node.value.values}, defined, name)
+                    else:
+                        ast.literal_eval(node.value)
                     bound.append(node.targets[0].id)
-                    ast.literal_eval(node.value)
                 if isinstance(node, (ast.FunctionDef, ast.ClassDef)):
                     bound.append(node.name)
+                    defined |= {node.name} if isinstance(node, ast.FunctionDef) else set()
                 if isinstance(node, ast.ImportFrom):
                     bound.extend(each.name for each in node.names)
             self.assertEqual(len(bound), len(set(bound)), name)
@@ -253,9 +274,26 @@ class Code(unittest.TestCase):
         for name, tree in found.items():
             for node in ast.walk(tree):
                 if isinstance(node, ast.Try):
-                    self.assertEqual(node.finalbody, [], name)
                     for handler in node.handlers:
-                        self.assertIn(handler.type.id, own, name)
+                        named = handler.type.elts if isinstance(handler.type, ast.Tuple) else [handler.type]
+                        self.assertLessEqual({each.id for each in named}, own, name)
+
+    def test_what_is_done_finally_is_simple(self):
+        found = [node for tree in trees().values() for node in ast.walk(tree) if isinstance(node, ast.Try)]
+        self.assertEqual(sum(len(node.finalbody) for node in found), 1)
+        for node in found:
+            for row in node.finalbody:
+                self.assertIsInstance(row, ast.Assign)
+                for part in [*row.targets, row.value]:
+                    self.assertIsInstance(part, (ast.Name, ast.Attribute))
+
+    def test_errors_are_made_where_they_are_raised(self):
+        for name, tree in trees().items():
+            for node in ast.walk(tree):
+                if isinstance(node, ast.Raise):
+                    self.assertIsInstance(node.exc, ast.Call, (name, node.lineno))
+                    self.assertIsInstance(node.exc.func, ast.Name, (name, node.lineno))
+                    self.assertIn("None" if node.cause is None else ast.unparse(node.cause), ("None", "error"), name)
 
     def test_generators(self):
         found = trees()

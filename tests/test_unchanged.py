@@ -2,7 +2,9 @@
 
 import copy
 
-from frontlines import alike, breaks, chains, trees
+from frontlines import alike, breaks, chains, claims, texts, trees
+from frontlines.desk import Desk
+from frontlines.drafts import Draft
 from frontlines.errors import LineError, OtherReaders, TooMany
 from frontlines.machines import Machine
 from frontlines.readers import Reader
@@ -304,3 +306,65 @@ class Messages(Case):
             self.assertEqual(self.told(), before)
         self.assertRaises(OtherReaders, alike.are_alike, self.reader, Reader("->a", ["--"], ">"))
         self.assertEqual(self.told(), before)
+
+
+class TextsAndClaims(Case):
+    def setUp(self):
+        reader = Reader("->a", ["--", "->"], ">")
+        self.scheme = Scheme(reader, [Relay("->a", [("front", ">", "")]), Relay("->a", [])], "whole")
+        self.text = texts.text_of(self.scheme)
+        tight = texts.text_of(Scheme(reader, self.scheme.relays(), "any"))
+        start = texts.text_of(Scheme(reader.with_care("sight", "start"), self.scheme.relays(), "any"))
+        self.claims = [
+            {"claim": "turned", "scheme": self.text, "line": ">>--", "role": ("next", 1)},
+            {"claim": "never", "scheme": self.text, "line": "a", "role": ("end", 2)},
+            {"claim": "sound", "scheme": tight}, {"claim": "unsound", "scheme": self.text},
+            {"claim": "alike", "scheme": self.text, "other": tight},
+            {"claim": "unlike", "scheme": self.text, "other": start},
+        ]
+
+    def test_texts(self):
+        before = repr(self.scheme)
+        self.assertEqual(texts.text_of(self.scheme), self.text)
+        self.assertEqual(texts.read_scheme(self.text), texts.read_scheme(self.text))
+        self.assertIsNot(texts.read_scheme(self.text), texts.read_scheme(self.text))
+        self.assertEqual(repr(self.scheme), before)
+
+    def emptied(self, value):
+        for part in value if isinstance(value, (list, tuple)) else ():
+            self.emptied(part)
+        if isinstance(value, list):
+            value.clear()
+
+    def test_claims_and_papers(self):
+        for claim in self.claims:
+            kept = copy.deepcopy(claim)
+            paper = claims.paper_for(claim)
+            same = copy.deepcopy(paper)
+            self.assertIs(claims.is_paper(claim, paper), True)
+            self.assertIs(claims.is_true(claim), True)
+            self.assertEqual((claim, paper), (kept, same))
+            self.emptied(claims.paper_for(claim))
+            self.assertEqual(claims.paper_for(claim), same)
+            self.assertIs(claims.is_paper(claim, paper), True)
+
+    def test_a_draft_and_a_desk_keep_what_was_passed(self):
+        before = repr(self.scheme)
+        draft, table = Draft(self.scheme), Desk(self.scheme)
+        draft.put_tail("a")
+        draft.take_away(0)
+        table.do_all("relay", "mark 1 a", "rule 2 whole a _")
+        self.assertEqual(repr(self.scheme), before)
+        given = [Relay("->a", [])]
+        draft += given[0]
+        given.clear()
+        self.assertEqual(len(draft.scheme.relays()), 2)
+        told = draft.scheme
+        draft.scheme.relays().clear()
+        self.assertEqual(draft.scheme, told)
+        commands = ["cut 0", "undo"]
+        self.assertEqual(table.do_all(*commands), ["0", "cut 0"])
+        self.assertEqual(commands, ["cut 0", "undo"])
+        answers = table.do_all("sound", "tell")
+        answers.clear()
+        self.assertEqual(len(table.do_all("sound", "tell")), 2)
