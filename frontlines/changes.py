@@ -1,11 +1,9 @@
-"""Schemes with something changed, and the errors of what cannot be changed so."""
+"""Schemes with something changed; what cannot be changed so is refused as where the parts are made."""
 
-from frontlines.checks import check_level, check_look, check_mark, check_tail, is_place, is_word
-from frontlines.errors import InvalidLevel, InvalidMarks, InvalidRelays
+from frontlines.checks import check_level, check_mark, is_place, is_word
+from frontlines.errors import InvalidLevel, InvalidRelays
 from frontlines.readers import Reader
-from frontlines.relays import Relay
 from frontlines.schemes import Scheme
-from frontlines.turns import MOST_RELAYS
 
 
 def with_reader(scheme, reader):
@@ -13,23 +11,18 @@ def with_reader(scheme, reader):
     return Scheme(reader, scheme.relays(), scheme.look)
 
 
-def with_marks(scheme, marks):
-    """The scheme with other marks."""
-    reader = scheme.reader
-    cares = reader.cares()
-    return with_reader(scheme, Reader(reader.signs, marks, reader.tail, **cares))
+def with_lines(scheme, marks, tail):
+    """The scheme with other marks and another tail."""
+    cares = scheme.reader.cares()
+    return with_reader(scheme, Reader(scheme.signs, marks, tail, **cares))
 
 
 def with_mark(scheme, level, mark):
     """The scheme with another mark of the level."""
-    reader = scheme.reader
-    check_level(reader.depth, level)
-    check_mark(reader.signs, mark)
-    marks = reader.marks()
-    for place, known in enumerate(marks):
-        if place != level - 1 and known == mark:
-            raise InvalidMarks(max(place, level - 1))
-    return with_marks(scheme, marks[:level - 1] + [mark] + marks[level:])
+    marks = scheme.reader.marks()
+    check_level(len(marks), level)
+    check_mark(scheme.signs, mark)
+    return with_lines(scheme, marks[:level - 1] + [mark] + marks[level:], scheme.reader.tail)
 
 
 def without_level(scheme, level):
@@ -38,21 +31,17 @@ def without_level(scheme, level):
     check_level(len(marks), level)
     if len(marks) == 1:
         raise InvalidLevel(level)
-    return with_marks(scheme, marks[:level - 1] + marks[level:])
+    return with_lines(scheme, marks[:level - 1] + marks[level:], scheme.reader.tail)
 
 
 def with_tail(scheme, tail):
     """The scheme with another tail."""
-    reader = scheme.reader
-    check_tail(reader.signs, tail)
-    cares = reader.cares()
-    return with_reader(scheme, Reader(reader.signs, reader.marks(), tail, **cares))
+    return with_lines(scheme, scheme.reader.marks(), tail)
 
 
 def with_word(scheme, name, word):
     """The scheme with another word for a care, or for the look."""
     if is_word(name, ("look",)):
-        check_look(word)
         return Scheme(scheme.reader, scheme.relays(), word)
     return with_reader(scheme, scheme.reader.with_care(name, word))
 
@@ -64,12 +53,7 @@ def with_relays(scheme, relays):
 
 def with_relay(scheme, relay):
     """The scheme with a relay more, behind the others."""
-    relays = scheme.relays()
-    if len(relays) == MOST_RELAYS:
-        raise InvalidRelays(None)
-    if not isinstance(relay, Relay) or relay.signs != scheme.signs:
-        raise InvalidRelays(len(relays))
-    return with_relays(scheme, relays + [relay])
+    return with_relays(scheme, scheme.relays() + [relay])
 
 
 def without_relay(scheme, number):
@@ -77,6 +61,4 @@ def without_relay(scheme, number):
     relays = scheme.relays()
     if not is_place(number, len(relays)):
         raise InvalidRelays(number)
-    if len(relays) == 1:
-        raise InvalidRelays(None)
     return with_relays(scheme, relays[:number] + relays[number + 1:])

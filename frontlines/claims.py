@@ -124,8 +124,7 @@ def turned_shown(value, scheme, line, role):
 
 def never_shown(value, scheme, line, role):
     """Whether the value is a barrier."""
-    barrier = machine_told(scheme.signs, value)
-    return barrier is not None and is_barrier(scheme.relays(), line, scheme.reader.sees(role), barrier)
+    return is_barrier(scheme.relays(), line, scheme.reader.sees(role), machine_told(scheme.signs, value))
 
 
 def sound_shown(value, scheme):

@@ -30,9 +30,8 @@ def forms_of(words):
     if words == [] or words[0] not in FORMS:
         return None
     forms = list(FORMS[words[0]])
-    behind = len(words) - 1 - len(forms)
-    if behind > 0 and words[0] in MORE:
-        forms.extend([MORE[words[0]] for _ in range(behind)])
+    if words[0] in MORE:
+        forms.extend([MORE[words[0]] for _ in words[len(forms) + 1:]])
     return forms if len(words) == len(forms) + 1 else None
 
 

@@ -47,10 +47,7 @@ def add_cuts(ways, root, words, signs, width):
     """
     later = len(ways)
     every = later + 1
-    # A first piece is one of a broken line only if there is a sign behind it.
-    more = later + 2
     ways.append({})
-    ways.append({sign: every for sign in signs})
     ways.append({sign: every for sign in signs})
     ways[every][END] = DONE
     cuts = {}
@@ -60,7 +57,8 @@ def add_cuts(ways, root, words, signs, width):
         if len(piece) < width:
             cuts[word] = [(led(ways, later, piece + END), DONE)]
         else:
+            # A line that is just the piece is not broken, but comes in as well.
             nodes = [led(ways, root, piece), led(ways, later, piece)]
-            cuts[word] = [(nodes[0], more), (nodes[1], every)]
+            cuts[word] = [(node, every) for node in nodes]
             fulls.extend(nodes)
     return cuts, later, fulls

@@ -320,6 +320,13 @@ class Soundness(Case):
         part = Machine.having("->a", "--")
         self.assertIs(is_paper(claim, paper[:-1] + [(part.rows(), part.ends())]), True)
         self.assertIs(is_paper({"claim": "sound", "scheme": TIGHT}, paper[:-1] + [(part.rows(), part.ends())]), False)
+        # What is taken alone is not closed.
+        taken = Machine.of_lines("->a", ["--", "-->"])
+        self.assertIs(is_paper(claim, paper[:-1] + [(taken.rows(), taken.ends())]), False)
+        for at in range(2):
+            lost = Machine.every("->a") - Machine.of_lines("->a", [">" * many + "--" + ">" * at for many in range(3)])
+            self.assertIs(is_paper(claim, [(lost.rows(), lost.ends()) if each == at else paper[each]
+                                           for each in range(3)]), False)
         more = part | Machine.of_lines("->a", ["a"])
         self.assertIs(is_paper(claim, paper[:-1] + [(more.rows(), more.ends())]), False)
 

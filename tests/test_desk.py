@@ -38,9 +38,10 @@ NO_COMMANDS = STRANGE + [0, 1, [], ["relay"], ("relay",), AlwaysEqual(), b"relay
     f"rule 0 front {'-' * 41} a", f"rule 0 whole - {'a' * 41}", "rule front 0 - a", "rule 0  front - a", "rule 0 front -\na",
     "cut", "cut 5", "cut 9", "cut -1", "cut 0 0", "cut a", "cut 00", "cut _", "cut 0 ", " cut 0", "cut  0",
     "mark", "mark 1", "mark 0 a", "mark 10 a", "mark a a", "mark 1 b", "mark 1 a a", "mark 1 ", "mark 1  a", "mark -1 a",
-    "mark _ a", "mark 1 __", "mark a 1", "mark 1 a ",
+    "mark _ a", "mark 1 __", "mark a 1", "mark 1 a ", "mark 12 a", "mark 123 a", "mark 01 a",
     "care", "care sight", "care sights whole", "care tail a", "care sight whole whole", "care  sight whole", "care Look any",
-    "care sight ", "care sight  whole", "care look", "care any look", "care _ any", "care mark a",
+    "care sight ", "care sight  whole", "care look", "care any look", "care _ any", "care mark a", "care look any\n",
+    "care look a\nb", "care sight\n whole", "care look \n",
     "undo 1", "undo ", " undo", "Undo", "undo undo",
     "turn", "turn b", "turn a 5", "turn a 0 5", "turn a 01", "turn a -1", "turn a _", "turn a a", "turn 0", "turn a 0 ",
     "turn  0", "turn a  0", "turn __", "turn a b",
@@ -92,6 +93,7 @@ class Commands(Case):
                                 ("turn > 0 0 0", "_"), ("turn -- 1 1 0", ">--"), ("turn a 1 0 1", "a")):
             self.assertEqual(desk.do(command), answer)
         self.assertEqual(desk.do("turn -" + " 1" * 1000), ">" * 1000 + "-")
+        self.assertEqual(desk.do(f"turn {'>' * 41}{'a' * 41} 0"), ">" * 40 + "a" * 41)
         self.assertEqual(desk.log(), [])
 
     def test_sound(self):
@@ -113,6 +115,7 @@ class Commands(Case):
             ("tell --> a", "refused"), ("tell -- -> -- -->", "refused"),
         ):
             self.assertEqual(desk.do(command), answer)
+        self.assertEqual(desk.do(f"tell -- -> {'a' * 41} ->> -->"), "next 1, next 2, line, end 2, end 1")
         desk.do("care finish close")
         for command, answer in (("tell", "-"), ("tell -- -> _", "next 1, next 2, line"), ("tell a", "refused"),
                                 ("tell --", "next 1")):
@@ -209,6 +212,7 @@ class Wrong(Case):
         self.refused(InvalidLevel, {"value": 3}, desk, "mark 3 _")
         self.refused(InvalidMark, {"value": ""}, desk, "mark 1 _")
         self.refused(InvalidMark, {"value": "-" * 13}, desk, f"mark 2 {'-' * 13}")
+        self.refused(InvalidMark, {"value": "-" * 99}, desk, f"mark 2 {'-' * 99}")
         self.refused(InvalidMarks, {"position": 1}, desk, "mark 1 ->")
         self.refused(InvalidMarks, {"position": 1}, desk, "mark 2 --")
         for name, word in (("sight", "part"), ("sight", "_"), ("sight", "b"), ("order", "refuse"), ("further", "inner"),
