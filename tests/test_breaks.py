@@ -221,6 +221,15 @@ class Schemes(Case):
         self.assertEqual(first_coming(width=2, scheme=Scheme(READER, [STRIP], "any")), "---")
         self.assertEqual(first_coming(Scheme(READER, [SAME], "any"), 4), "------")
 
+    def test_first_coming_where_any_bars_by_all_signs(self):
+        # What any sign is taken from bars if it ends with the mark, or with the mark and the tail.
+        strip_any = Relay("ab", [("front", "a", ""), ("front", "b", "")])
+        scheme = Scheme(Reader("ab", ["aa"], "b"), [strip_any], "any")
+        self.assertEqual(first_coming(scheme, 2), "aaba")
+        self.assertEqual(first_coming(scheme, 3), "aaba")
+        self.assertIsNone(first_coming(scheme, 1))
+        self.assertEqual(first_longer(scheme, 2), ("aba", 0))
+
     def test_right_numbers(self):
         grow = Relay("->a", [("whole", ">", ">>>")])
         scheme = Scheme(READER, [grow, STRIP], "none")

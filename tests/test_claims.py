@@ -156,6 +156,13 @@ class Papers(Case):
             self.assertIs(is_paper(alike(READER, READER.with_care("order", "outer")), value), value is None)
             self.assertIs(is_paper(alike(READER, READER.with_care("finish", "close")), value), False)
 
+    def test_empty_values_are_no_messages(self):
+        claim = alike(READER, READER.with_care("finish", "close"), "unlike")
+        for value in ([], (), ["a", "--"][1:]):
+            self.assertIs(is_paper(claim, value), True)
+        for value in ("", "-", {}, frozenset(), range(0), b"", None, False, 0, [None], ["--", 0], [["--"]], "--"):
+            self.assertIs(is_paper(claim, value), False)
+
     def test_chains(self):
         for seed in range(60):
             scheme, rules, parts, _ = some(seed)
