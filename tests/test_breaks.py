@@ -81,7 +81,9 @@ class Coming(Case):
         for seed in range(80):
             source = random.Random(seed)
             signs = source.choice(["ab", "->a"])
-            _, relays = some_relays(source, signs)
+            relays = some_relays(source, signs)[1]
+            if seed % 2:
+                relays = [Relay(signs, brute.random_rules(source, signs, 3, 4)) for _ in range(2)]
             machine, width = some_machine(source, signs), source.randrange(1, 4)
             short = brute.lines_up_to(signs, width)
             few = []
