@@ -13,8 +13,9 @@ def with_reader(scheme, reader):
 
 def with_lines(scheme, marks, tail):
     """The scheme with other marks and another tail."""
+    signs = scheme.signs
     cares = scheme.reader.cares()
-    return with_reader(scheme, Reader(scheme.signs, marks, tail, **cares))
+    return with_reader(scheme, Reader(signs, marks, tail, **cares))
 
 
 def with_mark(scheme, level, mark):

@@ -64,7 +64,7 @@ def least_full_of(sorts, many):
         for sort, line in sorts:
             rest = mask & ~mask_of(sort)
             if rest != mask and rest in least:
-                bodies.append([line, *least[rest]])
+                bodies.append([line] + least[rest])
         if bodies:
             least[mask] = min(bodies, key=body_order)
     return least.get((1 << many) - 1)

@@ -105,6 +105,45 @@ def local_names(function):
     return set(stored) | set(parameters(function)) | set(caught)
 
 
+def is_plain_at_star(node, properties):
+    """Whether the node is a name, an attribute (no property) off a name, a literal, or a row of such."""
+    if isinstance(node, ast.Attribute):
+        return isinstance(node.value, ast.Name) and node.attr not in properties
+    if isinstance(node, (ast.List, ast.Tuple)):
+        return all(is_plain_at_star(each, properties) for each in node.elts)
+    if isinstance(node, ast.Dict):
+        return all(is_plain_at_star(each, properties) for each in [*node.keys, *node.values])
+    if isinstance(node, ast.UnaryOp):
+        return isinstance(node.op, ast.USub) and isinstance(node.operand, ast.Constant)
+    return isinstance(node, (ast.Name, ast.Constant))
+
+
+def starred_of(rows):
+    return [each.value for each in rows if isinstance(each, ast.Starred)]
+
+
+def star_faults(node, properties):
+    """What stands behind the stars of a call, or beside its `**`, against rule L7; the same is held for literals."""
+    if isinstance(node, (ast.List, ast.Tuple)):
+        return [each for each in starred_of(node.elts) if not is_plain_at_star(each, properties)]
+    if isinstance(node, ast.Dict):
+        doubles = [each for key, each in zip(node.keys, node.values) if key is None]
+        return [each for each in doubles if not is_plain_at_star(each, properties)]
+    if not isinstance(node, ast.Call):
+        return []
+    stars = starred_of(node.args)
+    doubles = [each.value for each in node.keywords if each.arg is None]
+    found = [each for each in stars if not is_plain_at_star(each, properties)]
+    ends = [(each.end_lineno, each.end_col_offset) for each in node.keywords if each.arg is not None]
+    found.extend(each for each in stars if ends and min(ends) < (each.lineno, each.col_offset))
+    if doubles:
+        beside = [each for each in node.args if not isinstance(each, ast.Starred)]
+        found.extend(each for each in beside + doubles if not is_plain_at_star(each, properties))
+        found.extend(each for each in doubles if not isinstance(each, (ast.Name, ast.Attribute)))
+        found.extend(node.keywords[1:])
+    return found
+
+
 def root(node):
     while isinstance(node, (ast.Attribute, ast.Subscript)):
         node = node.value
@@ -208,6 +247,30 @@ class Code(unittest.TestCase):
             for node in ast.walk(tree):
                 if isinstance(node, ast.Call):
                     self.assertIsInstance(node.func, (ast.Name, ast.Attribute), (name, node.lineno))
+
+    def test_stars(self):
+        found = trees()
+        made = {m.name for tree in found.values() for m in functions(tree) if m.decorator_list}
+        for name, tree in found.items():
+            for node in ast.walk(tree):
+                self.assertEqual(star_faults(node, made), [], (name, getattr(node, "lineno", 0)))
+
+    def test_stars_that_may_not_stand(self):
+        for text in (
+            "f(box.size, **more)", "f(*box.size)", "f(**box.size)", "f(box.part.row, **more)", "f(*xs[0])", "f(*g())",
+            "f(xs[0], **more)", "f(g(), **more)", "f(k + 1, **more)", "f(*(xs + ys))", "f(**more[0])", "f(**g())",
+            "f(**{'a': 1})", "f(**more, **less)", "f(a=1, **more)", "f(a=1, *xs)", "f([box.size], **more)",
+            "f(*[xs[0]])", "f({'a': g()}, **more)", "[1, *xs[0]]", "(*g(), 1)", "[*(xs + ys)]", "{**more[0]}",
+        ):
+            faults = [fault for node in ast.walk(ast.parse(text)) for fault in star_faults(node, {"size"})]
+            self.assertNotEqual(faults, [], text)
+        for text in (
+            "f(*xs)", "f(k, *xs)", "f(*xs, n, sep=n)", "f(**more)", "f(box.many, **box.more)", "f(1, 'a', **more)",
+            "f(-1, [k, (1, box.many)], {'a': k}, **more)", "f(*(k, 1))", "f(box.size, g(), xs[0])", "[1, *xs]",
+            "(*xs, *box.rows)", "{**more, 'a': g()}", "[*xs, g()]",
+        ):
+            faults = [fault for node in ast.walk(ast.parse(text)) for fault in star_faults(node, {"size"})]
+            self.assertEqual(faults, [], text)
 
     def test_module_level(self):
         allowed = (ast.ImportFrom, ast.FunctionDef, ast.ClassDef, ast.Assign, ast.Expr)
